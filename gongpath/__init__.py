@@ -1,0 +1,1 @@
+"""Gongpath: walks without end, and the greatest number heard again and again."""
