@@ -13,6 +13,10 @@ INTERFACE = {
     "errors.py": ["GongError", "BadGame", "BadSteps", "BadPlayer", "BadPlace", "TooMany"],
     "games.py": ["turned", "lean"],
     "walks.py": ["walk", "heard", "winner"],
+    "drawing.py": ["rounds"],
+    "solving.py": ["won", "winning_steps"],
+    "judging.py": ["flaw"],
+    "measures.py": ["measures"],
 }
 
 
