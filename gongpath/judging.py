@@ -26,7 +26,7 @@ def ways_by_steps(game, player, places, steps):
     going = {}
     for place in sorted(places):
         owner, _, ways = game[place]
-        going[place] = [steps[place]] if owner == player else list(ways)
+        going[place] = [steps[place]] if owner == player else ways
     return going
 
 
